@@ -1,0 +1,69 @@
+// Package parts: what is packed, part by part: for the layers that put many parts into bytes and read them again.
+package parts
+
+import (
+	"estuary/api"
+	"estuary/pack"
+)
+
+// Taker: behind an error it takes nothing more, so the first one stays, and one look at the end is enough.
+type Taker struct {
+	Left string
+	Err  error
+}
+
+// unread: what was wanted isn't at the front; why wraps the number.
+type unread struct {
+	where string
+	why   error
+}
+
+// Error: pack's own wheres are within why's.
+func (u unread) Error() string { return u.where + ": " + u.why.Error() }
+
+// Unwrap: by this fault's Code and errors.Is find the number.
+func (u unread) Unwrap() error { return u.why }
+
+// Unread: the error of a layer that may not call fault; why wraps a number.
+func Unread(where string, why error) error { return unread{where, why} }
+
+// Num: 0 behind an error.
+func (t *Taker) Num() int { return By(t, pack.Take) }
+
+// Text: of most bytes at most; empty behind an error.
+func (t *Taker) Text(most int) string {
+	return By(t, func(s string) (string, string, error) { return pack.TakeText(s, most) })
+}
+
+// Flag: false behind an error.
+func (t *Taker) Flag() bool { return By(t, pack.TakeFlag) }
+
+// By: for parts that a layer reads by itself; what isn't taken stays in front.
+func By[T any](t *Taker, take func(string) (T, string, error)) (taken T) {
+	if t.Err == nil {
+		taken, t.Left, t.Err = take(t.Left)
+	}
+	return taken
+}
+
+// List: too many are told as such also where the bytes lack, and none of them is taken; it ends at an error, as their number may be any.
+func List[T any](t *Taker, most int, one func(*Taker) T) []T {
+	n := t.Num()
+	if n > most {
+		t.Err = api.ErrLarge
+	}
+	var l []T
+	for ; n > 0 && t.Err == nil; n-- {
+		l = append(l, one(t))
+	}
+	return l
+}
+
+// Bytes: how many stands ahead of them, so that List knows where they end.
+func Bytes[T any](l []T, one func(T) string) string {
+	b := []byte(pack.Num(len(l)))
+	for _, x := range l {
+		b = append(b, one(x)...)
+	}
+	return string(b)
+}
