@@ -12,21 +12,6 @@ type Taker struct {
 	Err  error
 }
 
-// unread: what was wanted isn't at the front; why wraps the number.
-type unread struct {
-	where string
-	why   error
-}
-
-// Error: pack's own wheres are within why's.
-func (u unread) Error() string { return u.where + ": " + u.why.Error() }
-
-// Unwrap: by this fault's Code and errors.Is find the number.
-func (u unread) Unwrap() error { return u.why }
-
-// Unread: the error of a layer that may not call fault; why wraps a number.
-func Unread(where string, why error) error { return unread{where, why} }
-
 // Num: 0 behind an error.
 func (t *Taker) Num() int { return By(t, pack.Take) }
 

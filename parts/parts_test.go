@@ -1,7 +1,6 @@
 package parts_test
 
 import (
-	"errors"
 	"slices"
 	"testing"
 
@@ -59,13 +58,5 @@ func TestBytes(t *testing.T) {
 	}
 	if got := parts.Bytes([]string{"a", "", "reed"}, pack.Text); got != "\x03\x01a\x00\x04reed" {
 		t.Errorf("of three: %q", got)
-	}
-}
-
-// It is told by what it wraps.
-func TestUnread(t *testing.T) {
-	err := parts.Unread("here", api.ErrLarge)
-	if !errors.Is(err, api.ErrLarge) || fault.Code(err) != api.ErrLarge || err.Error() != "here: error 13" {
-		t.Errorf("%v", err)
 	}
 }
