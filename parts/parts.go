@@ -6,6 +6,8 @@ import (
 	"estuary/pack"
 )
 
+const mostText = 255 // bytes of a text in a Span or an Event; whether it is as short as it must be is for the layer to say
+
 // Taker: behind an error it takes nothing more, so the first one stays, and one look at the end is enough.
 type Taker struct {
 	Left string
@@ -22,6 +24,16 @@ func (t *Taker) Text(most int) string {
 
 // Flag: false behind an error.
 func (t *Taker) Flag() bool { return By(t, pack.TakeFlag) }
+
+// Span: behind an error what wasn't taken of it is empty.
+func (t *Taker) Span() api.Span {
+	return api.Span{From: t.Text(mostText), To: t.Text(mostText)}
+}
+
+// Event: likewise.
+func (t *Taker) Event() api.Event {
+	return api.Event{Key: t.Text(mostText), Version: t.Num(), Value: t.Text(mostText), Del: t.Flag()}
+}
 
 // By: for parts that a layer reads by itself; what isn't taken stays in front.
 func By[T any](t *Taker, take func(string) (T, string, error)) (taken T) {
@@ -51,4 +63,12 @@ func Bytes[T any](l []T, one func(T) string) string {
 		b = append(b, one(x)...)
 	}
 	return string(b)
+}
+
+// SpanBytes: of what isn't Is, too.
+func SpanBytes(s api.Span) string { return pack.Text(s.From) + pack.Text(s.To) }
+
+// EventBytes: likewise.
+func EventBytes(e api.Event) string {
+	return pack.Text(e.Key) + pack.Num(e.Version) + pack.Text(e.Value) + pack.Flag(e.Del)
 }

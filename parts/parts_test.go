@@ -2,6 +2,7 @@ package parts_test
 
 import (
 	"slices"
+	"strings"
 	"testing"
 
 	"estuary/api"
@@ -48,6 +49,45 @@ func TestList(t *testing.T) {
 		k := parts.Taker{Left: c.s}
 		if l := parts.List(&k, c.most, (*parts.Taker).Num); !slices.Equal(l, c.want) || fault.Code(k.Err) != c.code {
 			t.Errorf("of %q: %v, %v", c.s, l, k.Err)
+		}
+	}
+}
+
+// A Span and an Event, there and back, with texts up to the longest that are taken.
+func TestSpanAndEvent(t *testing.T) {
+	longest := strings.Repeat("v", 255)
+	for _, x := range []struct {
+		s    api.Span
+		e    api.Event
+		want string
+	}{
+		{api.Span{}, api.Event{}, "\x00\x00" + "\x00\x00\x00\x00"},
+		{api.Span{From: "b"}, api.Event{Key: "b", Version: 64, Value: "tall"}, "\x01b\x00" + "\x01b\x40\x01\x04tall\x00"},
+		{api.Span{From: "z", To: "a"}, api.Event{Key: "b", Version: 2, Del: true}, "\x01z\x01a" + "\x01b\x02\x00\x01"},
+		{api.Span{To: longest}, api.Event{Value: longest}, "\x00" + pack.Text(longest) + "\x00\x00" + pack.Text(longest) + "\x00"},
+	} {
+		put := parts.SpanBytes(x.s) + parts.EventBytes(x.e)
+		k := parts.Taker{Left: put + "tail"}
+		s, e := k.Span(), k.Event()
+		if put != x.want || s != x.s || e != x.e || k.Left != "tail" || k.Err != nil {
+			t.Errorf("of %+v, %+v: %q: %+v, %+v, %+v", x.s, x.e, put, s, e, k)
+		}
+	}
+}
+
+// What is too long, or cut off, is an error of it; behind that nothing is taken.
+func TestSpanAndEventErrors(t *testing.T) {
+	tooLong := pack.Text(strings.Repeat("v", 256))
+	for _, x := range []struct {
+		s    string
+		code api.Errno
+	}{
+		{tooLong + "\x00\x00\x00\x00\x00", api.ErrLarge}, {"\x00" + tooLong + "\x00\x00\x00\x00", api.ErrLarge}, {"\x00\x00" + tooLong + "\x00\x00\x00", api.ErrLarge}, {"\x00\x00\x00\x00" + tooLong + "\x00", api.ErrLarge},
+		{"", api.ErrShort}, {"\x00", api.ErrShort}, {"\x00\x00", api.ErrShort}, {"\x00\x00\x00\x00\x00", api.ErrShort}, {"\x00\x00\x00\x00\x00\x02", api.ErrForm},
+	} {
+		k := parts.Taker{Left: x.s}
+		if s, e := k.Span(), k.Event(); s != (api.Span{}) || e != (api.Event{}) || fault.Code(k.Err) != x.code {
+			t.Errorf("of %.20q: %+v, %+v, %v", x.s, s, e, k.Err)
 		}
 	}
 }
