@@ -1,4 +1,4 @@
-// Package fresh: copies that share no memory with what they are of, down to the Rows: for the layers that keep shards, or answer them.
+// Package fresh: copies that share no memory with what they are of, down to the Rows: for the layers that keep shards and answers, or hand them on.
 package fresh
 
 import (
