@@ -1,4 +1,4 @@
-// Package fresh: copies that share no memory with what they are of, down to the Rows: for the layers that keep shards and answers, or hand them on.
+// Package fresh: copies that share no memory with what they are of, down to the Rows: for the layers that keep shards, ops and answers, or hand them on.
 package fresh
 
 import (
@@ -11,6 +11,12 @@ import (
 func Answer(a api.Answer) api.Answer {
 	a.Rows = slices.Clone(a.Rows)
 	return a
+}
+
+// Op: with Writes that are nobody else's.
+func Op(o api.Op) api.Op {
+	o.Writes = slices.Clone(o.Writes)
+	return o
 }
 
 // Done: one list behind the other, as a Done that is copied alone still shares its Rows.

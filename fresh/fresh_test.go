@@ -83,3 +83,19 @@ func TestAnswer(t *testing.T) {
 		t.Errorf("what it is of: %#v", a)
 	}
 }
+
+func TestOp(t *testing.T) {
+	o := api.Op{Kind: api.OBatch, Key: "k", To: "t", Value: "v", Version: 3, Writes: slices.Grow([]api.Write{{Key: "a", Value: "v"}, {Key: "b", Del: true}}, 1)}
+	was := []api.Write{{Key: "a", Value: "v"}, {Key: "b", Del: true}}
+	got := fresh.Op(o)
+	if !op.Same(got, o) {
+		t.Errorf("%#v, not %#v", got, o)
+	}
+	spoil(got.Writes, api.Write{Key: "spoilt"})
+	if !slices.Equal(o.Writes, was) || o.Writes[:3][2] != (api.Write{}) {
+		t.Errorf("what it is of: %#v", o.Writes[:3])
+	}
+	if got := fresh.Op(api.Op{}); !op.Same(got, api.Op{}) {
+		t.Errorf("of none: %#v", got)
+	}
+}
